@@ -1,0 +1,1 @@
+"""linkfarms: package trees shown as one tree of links."""
