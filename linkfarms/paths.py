@@ -60,6 +60,13 @@ def split_path(path):
     return path.split("/")
 
 
+def joined(path, name):
+    """The path that goes on from a path with this name."""
+    if path == "":
+        return name
+    return f"{path}/{name}"
+
+
 def order_key(path):
     """What path order compares: the number of the names, then the names."""
     parts = split_path(path)

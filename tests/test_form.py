@@ -78,3 +78,18 @@ class Form(unittest.TestCase):
         calls = [(name, node.lineno) for name, node in nodes(ast.Call)
                  if isinstance(node.func, ast.Attribute) and node.func.attr == "items"]
         self.assertEqual(calls, [])
+
+    def test_no_function_has_the_name_of_a_generator(self):
+        defined = [node for name, node in nodes(ast.FunctionDef)]
+        generators = [node.name for node in defined if any(isinstance(part, ast.Yield) for part in ast.walk(node))]
+        self.assertIn("walk", generators)
+        for name in generators:
+            self.assertEqual(len([node for node in defined if node.name == name]), 1, name)
+
+    def test_no_name_is_a_method_and_an_attribute(self):
+        methods = {part.name for name, node in nodes(ast.ClassDef) for part in node.body
+                   if isinstance(part, ast.FunctionDef)}
+        stored = {node.attr for name, node in nodes(ast.Attribute) if isinstance(node.ctx, ast.Store)}
+        self.assertEqual(methods & stored, set())
+        read = {node.attr for name, node in nodes(ast.Attribute) if isinstance(node.ctx, ast.Load)}
+        self.assertIn("places", stored & read)

@@ -1,0 +1,63 @@
+"""Counting, walking and finding the paths of a farm [8]."""
+
+from linkfarms.charts import chart_of, counts_after, crowd_of
+from linkfarms.merging import Merged
+from linkfarms.paths import joined
+from linkfarms.ways import word_of
+
+LONGEST_WALK = 200
+
+
+def count(packages, length, *, kind="file"):
+    """How many paths with so many names show this kind: "file", "folder" or "clash"; raises TooMany(500)."""
+    chart = chart_of(packages)
+    if length < 0:
+        return 0
+    merged = Merged(chart.views, chart.moves)
+    crowds = {number: crowd_of(merged.moves[number]) for number in merged.moves}
+    counts = {merged.classes[0]: 1}
+    for step in range(length):
+        counts = counts_after(crowds, counts)
+    return sum([counts[number] for number in counts if word_of(merged.views[number]) == kind])
+
+
+def walk(packages, *, kind=None):
+    """A generator of the tuples (path, what it shows) of all paths that show something, or that show this kind.
+
+    They come in path order, up to those of 200 names; raises TooMany(500) when the first one is asked for.
+    """
+    chart = chart_of(packages)
+    # For each number of names from 0 on: from which states so many names lead on to a wanted one.
+    ahead = [[kind is None or word == kind for word in chart.words]]
+    for length in range(LONGEST_WALK + 1):
+        for path, at in paths_ahead(chart, ahead, length):
+            yield (path, chart.words[at])
+        ahead.append([any([ahead[length][moves[name]] for name in moves]) for moves in chart.moves])
+        if not any(ahead[length + 1]):
+            return
+
+
+def paths_ahead(chart, ahead, length):
+    """A generator of the tuples (path, state) of the paths with so many names to a wanted state, in path order."""
+    trail = [""]
+    stack = [(0, "", 0)] if ahead[length][0] else []
+    while len(stack) > 0:
+        many, name, at = stack.pop()
+        if many > 0:
+            del trail[many:]
+            trail.append(joined(trail[many - 1], name))
+        if many == length:
+            yield (trail[many], at)
+        else:
+            moves = chart.moves[at]
+            good = ahead[length - many - 1]
+            stack.extend([(many + 1, word, moves[word]) for word in reversed(list(moves)) if good[moves[word]]])
+
+
+def find(packages, content):
+    """The least path at which a farm has a file with this content, or None; raises TooMany(500)."""
+    chart = chart_of(packages)
+    for at in range(len(chart.views)):
+        if content in chart.views[at][1]:
+            return chart.least_path(at)
+    return None
