@@ -2,6 +2,7 @@
 
 from linkfarms.errors import BadEntry, BadText
 from linkfarms.paths import beginnings, in_order, is_path, order_key, parent, split_path
+from linkfarms.values import is_integer
 
 MOST_NAMES = 10
 MOST_TARGET_NAMES = 8
@@ -12,9 +13,7 @@ DIGITS = "0123456789"
 
 def is_content(thing):
     """Whether any value is the content of a file: an integer of at most 12 digits."""
-    if not isinstance(thing, int) or isinstance(thing, bool):
-        return False
-    return abs(thing) <= GREATEST_CONTENT
+    return is_integer(thing) and abs(thing) <= GREATEST_CONTENT
 
 
 def is_target(thing):
@@ -65,6 +64,23 @@ def with_parents(entries):
         for place in beginnings(path):
             full.setdefault(place, None)
     return {path: full[path] for path in in_order(list(full))}
+
+
+def solid_entries(entries):
+    """The dict of the files and the plain folders [10] among entries with all parents."""
+    torn = {place: True for path in entries if isinstance(entries[path], str) for place in beginnings(path)}
+    return {path: entries[path] for path in entries if not isinstance(entries[path], str) and path not in torn}
+
+
+def names_within(entries):
+    """A dict from the root and all folders to the ascending lists of the names directly in them."""
+    rooms = {"": []}
+    for path in entries:
+        folder, slash, name = path.rpartition("/")
+        rooms[folder].append(name)
+        if entries[path] is None:
+            rooms[path] = []
+    return rooms
 
 
 def row_of(path, item):

@@ -1,12 +1,16 @@
 """Packages [5]: trees of files, folders and references, with their texts [18]."""
 
-from linkfarms.entries import check_entries, entries_of, kind_of, row_of, with_parents
+from linkfarms.entries import check_entries, entries_of, kind_of, names_within, row_of, solid_entries, with_parents
 from linkfarms.errors import NoEntry, NoFile, NoFolder, NoReference, TooMany
-from linkfarms.paths import check_path, is_below, parent, split_path
+from linkfarms.paths import check_path, is_below
 
 
 class Package:
-    """A package. It never changes; its entries stand in path order, so nothing sorts them again."""
+    """A package. It never changes; its entries stand in path order, so nothing sorts them again.
+
+    solid has the entries to which a link of a layout may lead: files and plain folders. rooms has the names directly
+    in each folder.
+    """
 
     LIMIT = 40
 
@@ -16,6 +20,8 @@ class Package:
         self.entries = with_parents(given)
         if len(self.entries) > self.LIMIT:
             raise TooMany(self.LIMIT)
+        self.solid = solid_entries(self.entries)
+        self.rooms = names_within(self.entries)
 
     def kind(self, path):
         """What stands at a path, in a word; None for a path without an entry."""
@@ -42,13 +48,11 @@ class Package:
         """The ascending list of the names directly in a folder."""
         if self.kind(path) != "folder":
             raise NoFolder(path)
-        return sorted([split_path(place)[-1] for place in self.entries if parent(place) == path])
+        return list(self.rooms[path])
 
     def is_plain(self, thing):
         """Whether any value is the path of an entry that is a folder without a reference below it."""
-        if thing not in self or self.entries[thing] is not None:
-            return False
-        return not any([is_below(place, thing) for place in self.references])
+        return isinstance(thing, str) and thing in self.solid and self.solid[thing] is None
 
     def items(self):
         """A generator of the tuples (path, item), in path order."""

@@ -139,3 +139,13 @@ def two_spirals(one, other, ends):
     """The same with a folder of its own for each step."""
     rows = [("t", place_of(0, "r")), ("t", place_of(0, "s"))] + spiral(one, "x", "r") + spiral(other, "x", "s")
     return dealt(rows + [(place_of(one - 1, "r") + "/y", ends[0]), (place_of(other - 1, "s") + "/y", ends[1])])
+
+
+def rings_from_one_path(sizes):
+    """The references of one path to the starts of several rings of folders of these sizes."""
+    rows = []
+    for at, size in enumerate(sizes):
+        head = "klmn"[at]
+        rows += [("t", place_of(0, head))] + spiral(size, "x", head)
+        rows += [(place_of(step, head), None) for step in range(size)]
+    return rows
