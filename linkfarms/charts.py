@@ -25,8 +25,8 @@ def path_back(origins, at):
 class Chart:
     """The states of a farm, numbered in the order of the least paths that lead to them; the root has 0.
 
-    For each state: views has what the farm has there, words what it shows, moves the dict from the names that go on
-    to a path that shows something to the number of its state.
+    For each state: states has its places, views what the farm has there, words what it shows, moves the dict from the
+    names that go on to a path that shows something to the number of its state.
     """
 
     def __init__(self, ways):
@@ -34,18 +34,18 @@ class Chart:
         self.views = [ways.view(ROOT)]
         self.moves = []
         self.origins = [None]
-        states = [ROOT]
-        while len(self.moves) < len(states):
+        self.states = [ROOT]
+        while len(self.moves) < len(self.states):
             at = len(self.moves)
-            reached = ways.next_states(states[at])
+            reached = ways.next_states(self.states[at])
             for name in reached:
                 state = reached[name]
                 if state not in numbers:
-                    numbers[state] = len(states)
-                    states.append(state)
+                    numbers[state] = len(self.states)
+                    self.states.append(state)
                     self.views.append(ways.view(state))
                     self.origins.append((at, name))
-            if len(states) > MOST_STATES:
+            if len(self.states) > MOST_STATES:
                 raise TooMany(MOST_STATES)
             self.moves.append({name: numbers[reached[name]] for name in reached})
         self.words = [word_of(view) for view in self.views]
