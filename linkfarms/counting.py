@@ -2,7 +2,7 @@
 
 from linkfarms.charts import chart_of, counts_after, crowd_of
 from linkfarms.merging import Merged
-from linkfarms.paths import joined
+from linkfarms.tours import Tour, paths_ahead
 from linkfarms.ways import word_of
 
 LONGEST_WALK = 200
@@ -27,31 +27,12 @@ def walk(packages, *, kind=None):
     They come in path order, up to those of 200 names; raises TooMany(500) when the first one is asked for.
     """
     chart = chart_of(packages)
-    # For each number of names from 0 on: from which states so many names lead on to a wanted one.
-    ahead = [[kind is None or word == kind for word in chart.words]]
+    tour = Tour(chart.moves, [kind is None or word == kind for word in chart.words])
     for length in range(LONGEST_WALK + 1):
-        for path, at in paths_ahead(chart, ahead, length):
+        for path, at in paths_ahead(tour, length):
             yield (path, chart.words[at])
-        ahead.append([any([ahead[length][moves[name]] for name in moves]) for moves in chart.moves])
-        if not any(ahead[length + 1]):
+        if not tour.lengthen():
             return
-
-
-def paths_ahead(chart, ahead, length):
-    """A generator of the tuples (path, state) of the paths with so many names to a wanted state, in path order."""
-    trail = [""]
-    stack = [(0, "", 0)] if ahead[length][0] else []
-    while len(stack) > 0:
-        many, name, at = stack.pop()
-        if many > 0:
-            del trail[many:]
-            trail.append(joined(trail[many - 1], name))
-        if many == length:
-            yield (trail[many], at)
-        else:
-            moves = chart.moves[at]
-            good = ahead[length - many - 1]
-            stack.extend([(many + 1, word, moves[word]) for word in reversed(list(moves)) if good[moves[word]]])
 
 
 def find(packages, content):

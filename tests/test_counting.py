@@ -7,7 +7,7 @@ import unittest
 from linkfarms.counting import count, find, walk
 from linkfarms.farms import shown
 from linkfarms.packages import Package
-from plain import Told, order, word
+from plain import Told, all_paths, entries_of, had_at, order, step, table_of, word
 from samples import deep
 from some_farms import dealt, full_farm, place_of, random_farms, spiral, window, window_rows
 
@@ -183,6 +183,45 @@ class Walk(unittest.TestCase):
                 self.assertEqual(len(here), count(farm, many, kind=kind))
         for path, kind in rows[:200]:
             self.assertEqual(shown(farm, path), kind)
+
+    def test_farms_with_rings_to_the_end(self):
+        self.assertEqual(list(walk({"x": Package({"a": "", "b": 1})}, kind="file")),
+                         [("a/" * at + "b", "file") for at in range(200)])
+        self.assertEqual(list(walk({"x": Package({"a": ""})})),
+                         [("/".join(["a"] * at), "folder") for at in range(201)])
+        found = list(walk({"x": Package({"a/b/c/d/e": 1, "a/b/c/d/f": ""})}, kind="file"))
+        self.assertEqual(found, [("a/b/c/d/f/" * at + "a/b/c/d/e", "file") for at in range(40)])
+
+    def test_single_names_for_longer_than_is_noted(self):
+        for size in [1, 2, 39, 40, 41, 42, 90, 150]:
+            for stem in [0, 1, 3, 60]:
+                rows = spiral(size, "x", "k") + [(place_of(size - 1, "k") + "/f", 1), (place_of(0, "k") + "/g", 2)]
+                rows += spiral(stem, "y", "s")[:-1] if stem else []
+                rows += [(place_of(stem - 1, "s") + "/y", place_of(0, "k"))] if stem else []
+                farm = dealt(rows)
+                table, entries = table_of(farm), entries_of(farm)
+                start = place_of(0, "s") if stem else place_of(0, "k")
+                found = [path for path, kind in walk(farm, kind="file") if path.split("/")[0] == start]
+                expected, state = [], step(entries, table, {""}, start)
+                path = start
+                for _ in range(199):
+                    for name in "fg":
+                        if had_at(entries, step(entries, table, state, name))[1]:
+                            expected.append(path + "/" + name)
+                    name = "y" if step(entries, table, state, "y") else "x"
+                    state = step(entries, table, state, name)
+                    path += "/" + name
+                self.assertEqual(found, [path for path in expected if order(path)[0] <= 200], (size, stem))
+
+    def test_three_names_at_each_folder(self):
+        farm = {"p": Package({"a": "", "b": "", "c": ""})}
+        paths = [path for path, kind in itertools.islice(walk(farm), 9841)]
+        self.assertEqual(paths, all_paths(["a", "b", "c"], 8))
+        farm = {"p": Package({"a": "", "b/a": "b", "b/b": "b", "b/c": "", "b/f": 3})}
+        for kind in [None, "folder", "file"]:
+            expected = [(path, word(had)) for path, had in Told(farm).level(7)]
+            expected = [row for row in expected if kind in (None, row[1])]
+            self.assertEqual(list(itertools.islice(walk(farm, kind=kind), len(expected))), expected)
 
     def test_two_at_once(self):
         farm = {"p": Package({"a": "", "b": ""})}
