@@ -12,6 +12,13 @@ from linkfarms.ways import word_of
 
 def least_clash(ways):
     """The least path that shows "clash", or None."""
+    if ways.clash_note is None:
+        ways.clash_note = (search_clash(ways),)
+    return ways.clash_note[0]
+
+
+def search_clash(ways):
+    """The least path that shows "clash", or None, looked for anew."""
     search = PairSearch(ways)
     at = 0
     while at < len(search.groups):
@@ -40,8 +47,7 @@ class PairSearch:
     def __init__(self, ways):
         self.inner = ways.inner
         # Many states differ only by places with nothing but references, which lead no further.
-        shows = ways.folder_places | ways.file_places
-        self.steps = [{name: row[name] & shows for name in row} for row in ways.steps]
+        self.steps = [{name: row[name] & ways.shows for name in row} for row in ways.steps]
         self.met = [0 for row in ways.steps]
         self.groups = []
         self.origins = []

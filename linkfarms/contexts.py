@@ -2,6 +2,7 @@
 
 from linkfarms.packages import Package
 from linkfarms.paths import LETTERS, check_path, joined, split_path
+from linkfarms.strays import leads_to
 from linkfarms.ways import Ways, entries_in, ways_of
 
 
@@ -9,7 +10,7 @@ def leads(packages, path, target):
     """Whether a path leads to another one in a farm."""
     check_path(path)
     check_path(target)
-    return ways_of(packages, [target]).leads_to(path, target)
+    return leads_to(ways_of(packages), path, target)
 
 
 def covers(one, other):
@@ -19,15 +20,14 @@ def covers(one, other):
 
 def uncovered(one, other):
     """The list of the tuples (path, item) of the entries of the second farm that do not follow in the first one."""
-    entries = [(path, item) for name, path, item in entries_in(other)]
-    ways = ways_of(one, [item for path, item in entries if isinstance(item, str)])
-    return [(path, item) for path, item in entries if not follows(ways, path, item)]
+    ways = ways_of(one)
+    return [(path, item) for name, path, item in entries_in(other) if not follows(ways, path, item)]
 
 
 def follows(ways, path, item):
     """Whether a farm has an item at a path, or leads from it to the target if the item is a reference."""
     if isinstance(item, str):
-        return ways.leads_to(path, item)
+        return leads_to(ways, path, item)
     is_folder, contents = ways.view(ways.read(path))
     if item is None:
         return is_folder
@@ -73,7 +73,7 @@ def is_needless(entries, at):
     if not isinstance(target, str):
         return False
     others = entries[:at] + entries[at + 1:]
-    return Ways(others, [target]).leads_to(path, target)
+    return leads_to(Ways(others), path, target)
 
 
 def reduced(packages):

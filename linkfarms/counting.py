@@ -1,9 +1,8 @@
 """Counting, walking and finding the paths of a farm [8]."""
 
-from linkfarms.charts import chart_of, counts_after, crowd_of
-from linkfarms.merging import Merged
+from linkfarms.charts import chart_of
+from linkfarms.tallies import StateTally
 from linkfarms.tours import Tour, paths_ahead
-from linkfarms.ways import word_of
 
 LONGEST_WALK = 200
 
@@ -11,14 +10,9 @@ LONGEST_WALK = 200
 def count(packages, length, *, kind="file"):
     """How many paths with so many names show this kind: "file", "folder" or "clash"; raises TooMany(500)."""
     chart = chart_of(packages)
-    if length < 0:
-        return 0
-    merged = Merged(chart.views, chart.moves)
-    crowds = {number: crowd_of(merged.moves[number]) for number in merged.moves}
-    counts = {merged.classes[0]: 1}
-    for step in range(length):
-        counts = counts_after(crowds, counts)
-    return sum([counts[number] for number in counts if word_of(merged.views[number]) == kind])
+    if chart.tally is None:
+        chart.tally = StateTally(chart.words, chart.moves)
+    return chart.tally.count_flagged(length, kind)
 
 
 def walk(packages, *, kind=None):

@@ -37,13 +37,14 @@ class Forms:
 def least_tables(packages, chart):
     """The tables of the least layout of a farm with this chart, which has no clash; the top is 0."""
     merged = Merged(chart.views, chart.moves)
+    rows = {number: merged.class_row(number) for number in merged.samples}
     forms = Forms(packages)
-    folds = folds_of(merged, forms)
+    folds = folds_of(merged, rows, forms)
     joints = [merged.classes[0]]
     numbers = {joints[0]: 0}
     tables = {}
     while len(tables) < len(joints):
-        moves = merged.moves[joints[len(tables)]]
+        moves = rows[joints[len(tables)]]
         for name in moves:
             if moves[name] not in folds and moves[name] not in numbers:
                 numbers[moves[name]] = len(joints)
@@ -55,16 +56,16 @@ def least_tables(packages, chart):
     return tables
 
 
-def folds_of(merged, forms):
+def folds_of(merged, rows, forms):
     """A dict from the classes of files, and of the folders that are the same as a plain folder, to their forms."""
     folds = {}
-    waiting = list(merged.moves)
+    waiting = list(rows)
     found = True
     # A folder has its form at the latest one round after all in it, and plain folders are not deep.
     while found:
         left = []
         for number in waiting:
-            key = key_of(merged, number, folds)
+            key = key_of(merged.class_view(number), rows[number], folds)
             if key in forms.numbers:
                 folds[number] = forms.numbers[key]
             else:
@@ -74,12 +75,11 @@ def folds_of(merged, forms):
     return folds
 
 
-def key_of(merged, number, folds):
+def key_of(view, row, folds):
     """The key of the form of a class, None if something in it has no form yet."""
-    is_folder, contents = merged.views[number]
+    is_folder, contents = view
     if not is_folder:
         return contents
-    moves = merged.moves[number]
-    if not all([name in folds for name in list(moves.values())]):
+    if not all([number in folds for number in list(row.values())]):
         return None
-    return tuple([(name, folds[moves[name]]) for name in moves])
+    return tuple([(name, folds[row[name]]) for name in row])

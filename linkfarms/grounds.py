@@ -6,9 +6,7 @@ Layouts are read by their rows, the dict of their tables, and their peak, the jo
 
 from linkfarms.errors import NoTarget
 from linkfarms.paths import joined
-
-# What a farm has at a path that shows a folder alone.
-FOLDER_VIEW = (True, ())
+from linkfarms.ways import FOLDER_VIEW
 
 
 def stands(packages, target):

@@ -2,11 +2,12 @@
 
 from linkfarms.charts import chart_of
 from linkfarms.clashes import least_clash
+from linkfarms.differences import least_difference
 from linkfarms.errors import BadLayout, Clash
 from linkfarms.forms import least_tables
 from linkfarms.grounds import check_links, spot_after, wrong_link
 from linkfarms.paths import check_path, is_name, split_path
-from linkfarms.shapes import Shape, least_difference
+from linkfarms.shapes import Shape
 from linkfarms.values import is_joint, is_place_in_package
 from linkfarms.ways import ways_of
 

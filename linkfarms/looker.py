@@ -1,10 +1,11 @@
 """Looking at plans [14]: whether they are right, and whether they are straight."""
 
+from linkfarms.differences import least_difference
 from linkfarms.drafts import Draft, is_deed, targets_in
 from linkfarms.glances import Watch
 from linkfarms.grounds import check_links, stands
 from linkfarms.layouts import joints_from
-from linkfarms.shapes import Shape, least_difference
+from linkfarms.shapes import Shape
 
 
 def fault(packages, old, new, deeds):

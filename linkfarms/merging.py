@@ -4,31 +4,44 @@
 class Merged:
     """The classes of states: two states are in one class if they, and all paths beyond them, show the same.
 
-    classes has the class of each state, views and moves have what a class shows, and the classes to which it leads.
+    classes has the class of each state, samples a state of each class.
     """
 
     def __init__(self, views, moves):
         self.classes = classes_of(views, moves)
-        self.views = {}
-        self.moves = {}
+        self.samples = {}
         for at in range(len(views)):
-            number = self.classes[at]
-            if number not in self.views:
-                self.views[number] = views[at]
-                self.moves[number] = {name: self.classes[moves[at][name]] for name in moves[at]}
+            self.samples.setdefault(self.classes[at], at)
+        self.all_views = views
+        self.all_moves = moves
+
+    def class_view(self, number):
+        """What a class shows."""
+        return self.all_views[self.samples[number]]
+
+    def class_row(self, number):
+        """A dict from the names that go on from a class to the classes to which they lead."""
+        row = self.all_moves[self.samples[number]]
+        return {name: self.classes[row[name]] for name in row}
 
 
 def classes_of(views, moves):
     """The list of the numbers of the classes of the states; moves has a dict for each, names ascending."""
-    classes = [0 for view in views]
-    sizes = [len(views)]
-    callers = callers_of(moves)
+    numbers = {}
+    classes = [numbers.setdefault((views[at], tuple(moves[at])), len(numbers)) for at in range(len(views))]
+    sizes = [0 for key in numbers]
+    for number in classes:
+        sizes[number] += 1
+    nexts = [list(row.values()) for row in moves]
+    callers = callers_of(nexts)
     touched = list(range(len(views)))
     while len(touched) > 0:
         parts = {}
         for at in touched:
-            key = (views[at], tuple([(name, classes[moves[at][name]]) for name in moves[at]]))
-            parts.setdefault(classes[at], {}).setdefault(key, []).append(at)
+            # A state that is alone in its class stays so.
+            if sizes[classes[at]] > 1:
+                key = tuple([classes[to] for to in nexts[at]])
+                parts.setdefault(classes[at], {}).setdefault(key, []).append(at)
         changed = []
         for number in parts:
             changed.extend(split_class(classes, sizes, number, list(parts[number].values())))
@@ -37,12 +50,12 @@ def classes_of(views, moves):
     return classes
 
 
-def callers_of(moves):
+def callers_of(nexts):
     """For each state the list of the states that lead to it."""
-    callers = [[] for row in moves]
-    for at in range(len(moves)):
-        for name in moves[at]:
-            callers[moves[at][name]].append(at)
+    callers = [[] for row in nexts]
+    for at in range(len(nexts)):
+        for to in nexts[at]:
+            callers[to].append(at)
     return callers
 
 

@@ -2,6 +2,7 @@
 
 from linkfarms.entries import check_entries, entries_of, kind_of, names_within, row_of, solid_entries, with_parents
 from linkfarms.errors import NoEntry, NoFile, NoFolder, NoReference, TooMany
+from linkfarms.notes import Notebook, Token
 from linkfarms.paths import check_path, is_below
 
 
@@ -9,7 +10,7 @@ class Package:
     """A package. It never changes; its entries stand in path order, so nothing sorts them again.
 
     solid has the entries to which a link of a layout may lead: files and plain folders. rooms has the names directly
-    in each folder.
+    in each folder. token stands for the package, and notes are for what is worked out about farms that have it.
     """
 
     LIMIT = 40
@@ -22,6 +23,8 @@ class Package:
             raise TooMany(self.LIMIT)
         self.solid = solid_entries(self.entries)
         self.rooms = names_within(self.entries)
+        self.token = Token()
+        self.notes = Notebook()
 
     def kind(self, path):
         """What stands at a path, in a word; None for a path without an entry."""

@@ -8,9 +8,9 @@ LONGEST_NAME = 8
 
 def is_name(thing):
     """Whether any value is a name: a string of 1 to 8 letters a to z."""
-    if not isinstance(thing, str) or not 1 <= len(thing) <= LONGEST_NAME:
-        return False
-    return all([letter in LETTERS for letter in thing])
+    # What is ASCII, consists of letters and has no capital among them consists of a to z.
+    return (isinstance(thing, str) and 1 <= len(thing) <= LONGEST_NAME
+            and thing.isascii() and thing.isalpha() and thing.islower())
 
 
 def is_path(thing):

@@ -1,10 +1,10 @@
 """The paths that lead to one place, perhaps one at which nothing is yet [6, 15]."""
 
-from linkfarms.charts import Chart, counts_after, crowd_of, path_back
-from linkfarms.merging import Merged
+from linkfarms.charts import Chart, path_back
 from linkfarms.paths import beginnings, joined
 from linkfarms.tables import ROOT, indexes
-from linkfarms.ways import Ways, number_in
+from linkfarms.tallies import StateTally
+from linkfarms.ways import Ways
 
 
 def least_path_to(entries, place):
@@ -13,8 +13,8 @@ def least_path_to(entries, place):
     The farm may have too many states, so the places are followed one by one, each from the least path that leads
     to it.
     """
-    ways = Ways(entries, [place])
-    wanted = 1 << number_in(ways.inside, place)
+    ways = Ways(with_file(entries, place))
+    wanted = 1 << ways.numbers[place]
     groups = [ROOT]
     origins = [None]
     met = ROOT
@@ -33,6 +33,11 @@ def least_path_to(entries, place):
     return None
 
 
+def with_file(entries, place):
+    """Entries, and a file at a place with its parents; its content does not matter."""
+    return [*entries, *[("", folder, None) for folder in beginnings(place)], ("", place, 0)]
+
+
 def states_after(ways, state):
     """A dict from the names that go on from the places of a state to all places to which they lead."""
     reached = {}
@@ -44,19 +49,8 @@ def states_after(ways, state):
 
 
 def count_paths_to(entries, place, length):
-    """How many paths with so many names lead to a new file at a place; raises TooMany(500).
-
-    The entries are those without the file, and perhaps without its parents.
-    """
-    grown = [*entries, *[("", folder, None) for folder in beginnings(place)], ("", place, 0)]
-    ways = Ways(grown)
+    """How many paths with so many names lead to a new file at a place; raises TooMany(500)."""
+    ways = Ways(with_file(entries, place))
     chart = Chart(ways)
-    if length < 0:
-        return 0
-    wanted = 1 << number_in(ways.inside, place)
-    merged = Merged([state & wanted != 0 for state in chart.states], chart.moves)
-    crowds = {number: crowd_of(merged.moves[number]) for number in merged.moves}
-    counts = {merged.classes[0]: 1}
-    for step in range(length):
-        counts = counts_after(crowds, counts)
-    return sum([counts[number] for number in counts if merged.views[number]])
+    wanted = 1 << ways.numbers[place]
+    return StateTally([state & wanted != 0 for state in chart.states], chart.moves).count_flagged(length, True)

@@ -9,7 +9,7 @@ MOST_NOTED = 40
 class Tour:
     """The ways to the wanted states of a chart.
 
-    ahead has for each number of names from 0 on the bits of the states from which so many names lead on to a wanted
+    good has for each number of names from 0 on the bits of the states from which so many names lead on to a wanted
     one.
     """
 
@@ -19,22 +19,22 @@ class Tour:
         for at in range(len(moves)):
             for to in list(moves[at].values()):
                 self.callers[to] = self.callers[to] | 1 << at
-        self.ahead = [sum([1 << at for at in range(len(wanted)) if wanted[at]])]
+        self.good = [sum([1 << at for at in range(len(wanted)) if wanted[at]])]
         self.shortcuts = {}
 
     def lengthen(self):
         """Look one name further ahead; whether any state leads on to a wanted one so far away."""
         longer = 0
-        for at in indexes(self.ahead[-1]):
+        for at in indexes(self.good[-1]):
             longer = longer | self.callers[at]
-        self.ahead.append(longer)
+        self.good.append(longer)
         return longer != 0
 
     def names_ahead(self, at, left):
         """The ascending list of the names that go on from a state to a wanted one that is so many names away."""
-        good = self.ahead[left - 1]
+        near = self.good[left - 1]
         row = self.moves[at]
-        return [name for name in row if good >> row[name] & 1]
+        return [name for name in row if near >> row[name] & 1]
 
     def shortcut(self, at, left):
         """The tuple (names, state, names left, next names) of what follows where only one name goes on at a time.
@@ -66,7 +66,7 @@ class Tour:
 
 def paths_ahead(tour, length):
     """A generator of the tuples (path, state) of the paths with so many names to a wanted state, in path order."""
-    stack = [("", 0, length)] if tour.ahead[length] & 1 else []
+    stack = [("", 0, length)] if tour.good[length] & 1 else []
     while len(stack) > 0:
         path, at, left = stack.pop()
         if left > 0:

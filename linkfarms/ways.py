@@ -1,12 +1,25 @@
 """Where the paths of a farm lead, and what the farm has there [6]."""
 
+from linkfarms.notes import tokens_of
 from linkfarms.paths import in_order, split_path
-from linkfarms.tables import ROOT, indexes, inner_places, table_of
+from linkfarms.tables import ROOT, Search, indexes
+
+# What a farm has at a path that shows a folder: (is_folder, contents).
+FOLDER_VIEW = (True, ())
 
 
-def ways_of(packages, marks=()):
+def ways_of(packages):
     """The ways of a farm."""
-    return Ways(entries_in(packages), marks)
+    names = sorted(packages)
+    if len(names) == 0:
+        return Ways([])
+    notes = packages[names[0]].notes
+    tokens = tokens_of(packages, names)
+    ways = notes.recall(tokens)
+    if ways is None:
+        ways = Ways(entries_in(packages))
+        notes.jot(tokens, ways)
+    return ways
 
 
 def entries_in(packages):
@@ -21,13 +34,11 @@ def entries_in(packages):
 def word_of(view):
     """What a path shows, in a word, at which the farm has this: (is_folder, contents)."""
     is_folder, contents = view
-    if is_folder and len(contents) == 0:
-        return "folder"
-    if not is_folder and len(contents) == 1:
-        return "file"
-    if not is_folder and len(contents) == 0:
+    if is_folder:
+        return "clash" if contents else "folder"
+    if len(contents) == 0:
         return "nothing"
-    return "clash"
+    return "file" if len(contents) == 1 else "clash"
 
 
 def places_of(entries):
@@ -38,56 +49,55 @@ def places_of(entries):
     return in_order(list(found))
 
 
-def number_in(inside, path):
-    """The number of the place at a path."""
-    at = 0
-    for name in split_path(path):
-        at = inside[at][name]
-    return at
-
-
-def plant_place(inside, path):
-    """Add places until there is one at a path."""
-    at = 0
-    for name in split_path(path):
-        if name not in inside[at]:
-            inside[at][name] = len(inside)
-            inside.append({})
-        at = inside[at][name]
-
-
 class Ways:
-    """Entries, and whither all paths lead by them. The places are numbered in path order.
+    """Entries with all their parents, and whither all paths lead by them. The places are numbered in path order.
 
-    The marks are paths that are places too, behind all others, though nothing need be there.
+    inside has for each place the dict from the names behind it, ascending, to the places there; steps has the same
+    with the states to which they lead. chart and clash_note are for what is worked out from the ways, once it is
+    asked for, as are the strays. Otherwise ways never change.
     """
 
-    def __init__(self, entries, marks=()):
+    def __init__(self, entries):
         self.places = places_of(entries)
-        self.inside = [{}]
-        for path in [*self.places, *marks]:
-            plant_place(self.inside, path)
-        self.inner = inner_places(self.inside)
-        self.held = [[] for place in self.inside]
+        self.numbers = {self.places[at]: at for at in range(len(self.places))}
+        self.inside = [{} for place in self.places]
+        for at in range(1, len(self.places)):
+            folder, slash, name = self.places[at].rpartition("/")
+            self.inside[self.numbers[folder]][name] = at
+        self.held = {}
         self.folder_places = ROOT
         self.file_places = 0
-        targets = [[] for place in self.inside]
+        self.targets = {}
         for name, path, item in entries:
-            at = number_in(self.inside, path)
-            if item is None:
-                self.folder_places = self.folder_places | 1 << at
-            elif isinstance(item, int):
-                self.file_places = self.file_places | 1 << at
-                self.held[at].append(item)
-            else:
-                targets[at].append(item)
-        self.steps = steps_of(self.inside, targets)
+            self.add_item(self.numbers[path], item)
+        self.shows = self.folder_places | self.file_places
+        self.search = Search(self.inside, self.targets)
+        self.steps = steps_of(self)
+        self.inner = sum([1 << at for at in range(len(self.inside)) if len(self.inside[at]) > 0])
+        self.chart = None
+        self.clash_note = None
+        self.strays = {}
+
+    def add_item(self, at, item):
+        """Some package has an entry at a place."""
+        if item is None:
+            self.folder_places = self.folder_places | 1 << at
+        elif isinstance(item, int):
+            self.file_places = self.file_places | 1 << at
+            self.held.setdefault(at, []).append(item)
+        else:
+            self.targets.setdefault(at, []).append(item)
 
     def step(self, state, name):
         """The places to which a path leads that goes on with a name from one that leads to a state."""
         reached = 0
-        for at in indexes(state & self.inner):
-            reached = reached | self.steps[at].get(name, 0)
+        left = state & self.inner
+        while left:
+            bit = left & -left
+            left = left ^ bit
+            row = self.steps[bit.bit_length() - 1]
+            if name in row:
+                reached = reached | row[name]
         return reached
 
     def read(self, path):
@@ -97,34 +107,40 @@ class Ways:
             state = self.step(state, name)
         return state
 
-    def leads_to(self, path, mark):
-        """Whether a path leads to the place at a mark."""
-        return self.read(path) & (1 << number_in(self.inside, mark)) != 0
-
     def sources_in(self, state):
         """The list of the places of a state, in path order."""
         return [self.places[at] for at in indexes(state)]
 
     def view(self, state):
         """The tuple (is_folder, contents) of what the farm has at a path that leads to a state."""
-        contents = sorted({content for at in indexes(state & self.file_places) for content in self.held[at]})
-        return (state & self.folder_places != 0, tuple(contents))
+        is_folder = state & self.folder_places != 0
+        files = state & self.file_places
+        if files == 0:
+            return (is_folder, ())
+        return (is_folder, tuple(sorted({content for at in indexes(files) for content in self.held[at]})))
 
     def next_states(self, state):
         """A dict from the names that go on to a path that shows something to its state, ascending."""
+        shows = self.shows
+        left = state & self.inner
+        bit = left & -left
+        if left == bit:
+            row = self.steps[bit.bit_length() - 1] if bit else {}
+            return {name: row[name] for name in row if row[name] & shows}
         reached = {}
-        for at in indexes(state & self.inner):
-            for name in self.steps[at]:
-                reached[name] = reached.get(name, 0) | self.steps[at][name]
-        shows = self.folder_places | self.file_places
-        return {name: reached[name] for name in sorted(reached) if reached[name] & shows != 0}
+        while left:
+            bit = left & -left
+            left = left ^ bit
+            row = self.steps[bit.bit_length() - 1]
+            for name in row:
+                reached[name] = reached[name] | row[name] if name in reached else row[name]
+        return {name: reached[name] for name in sorted(reached) if reached[name] & shows}
 
 
-def steps_of(inside, targets):
+def steps_of(ways):
     """For each place the dict from the names behind it to the states to which they lead."""
-    table = table_of(inside, targets)
-    entered = [1 << at for at in range(len(inside))]
-    for at in range(len(inside)):
-        for target in targets[at]:
-            entered[at] = entered[at] | table[target]
-    return [{name: entered[row[name]] for name in row} for row in inside]
+    entered = [1 << at for at in range(len(ways.places))]
+    for at in ways.targets:
+        for target in ways.targets[at]:
+            entered[at] = entered[at] | ways.search.found[target]
+    return [{name: entered[row[name]] for name in row} for row in ways.inside]
