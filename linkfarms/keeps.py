@@ -101,7 +101,7 @@ def greatest_turning(packages, old, new):
     if len(old) > MOST_JOINTS or len(new) > MOST_JOINTS:
         raise TooMany(MOST_JOINTS)
     seen = new.seen()
-    for keep in sorted(all_keeps(sorted(pairing.pairs)), key=lambda keep: (-len(keep), keep)):
+    for keep in sorted(all_keeps(sorted(pairing.pairs)), key=lambda row: (-len(row), row)):
         turning = Turning(pairing, seen, keep, hasty=True)
         if turning.is_orderly():
             return (keep, turning)

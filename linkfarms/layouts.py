@@ -50,8 +50,7 @@ class Layout:
         return isinstance(other, Layout) and self.peak == other.peak and self.rows == other.rows
 
     def __repr__(self):
-        many = sum([len(self.rows[joint]) for joint in self.rows])
-        return f"Layout({len(self.rows)} joints, {many} links)"
+        return f"Layout({len(self.rows)} joints, {sum([len(self.rows[joint]) for joint in self.rows])} links)"
 
 
 def check_tables(tables, top):

@@ -106,8 +106,7 @@ class Package:
         return isinstance(other, Package) and self.entries == other.entries
 
     def __repr__(self):
-        counts = f"{len(self.files)} files, {len(self.folders)} folders, {len(self.references)} references"
-        return f"Package({counts})"
+        return f"Package({len(self.files)} files, {len(self.folders)} folders, {len(self.references)} references)"
 
     def __str__(self):
         return "\n".join([row_of(path, self.entries[path]) for path in self.entries])

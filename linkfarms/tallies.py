@@ -22,8 +22,8 @@ class Tally:
         self.marks = [{start: 1}]
 
     def find_after(self, spot):
-        """The list of the spots to which the names lead that go on from a spot."""
-        raise NotImplementedError
+        """The list of the spots to which the names lead that go on from a spot; none, unless a class below knows."""
+        return []
 
     def all_after(self, spot):
         """The same, found once."""

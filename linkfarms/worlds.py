@@ -3,9 +3,8 @@
 from linkfarms.charts import chart_of
 from linkfarms.clashes import least_clash
 from linkfarms.entries import is_content
-from linkfarms.errors import (
-    BadContent, BadName, BadPackage, Clash, NoFarm, NoFile, NoFolder, NoPackage, NothingToUndo, Shared, Taken, TooMany,
-)
+from linkfarms.errors import BadContent, BadName, BadPackage, Clash, NoFarm, NoFile
+from linkfarms.errors import NoFolder, NoPackage, NothingToUndo, Shared, Taken, TooMany
 from linkfarms.lots import OWN, holders_at, landing_at, owners_at, packages_of
 from linkfarms.packages import Package
 from linkfarms.paths import check_path, is_name, parent

@@ -9,7 +9,7 @@ FOLDER = pathlib.Path(__file__).resolve().parent.parent / "linkfarms"
 # Spelt in halves, so that this file may be read by the same rules.
 BARRED = ["ty" + "pe", "ty" + "ping", "enu" + "m", "Enu" + "m", "AB" + "C", "Proto" + "col", "named" + "tuple"]
 BUILTINS = """len range enumerate zip min max sum abs sorted reversed int str bool list tuple dict set isinstance ord
-repr any all divmod iter next ValueError TypeError KeyError LookupError OverflowError RuntimeError NotImplementedError property classmethod
+repr any all divmod iter next ValueError TypeError KeyError LookupError OverflowError RuntimeError property classmethod
 staticmethod NotImplemented""".split()
 SPECIAL = re.compile("__[a-z]+__")
 
