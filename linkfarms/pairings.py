@@ -83,17 +83,18 @@ class Pairing:
             self.pairs.append(pair)
             self.origins.append(origin)
 
-    def stretch(self, pair, common):
+    def stretch(self, pair, common, old_asked, new_asked):
         """The bits of the old and of the new joints in the pairs of a stretch that begins with this pair.
 
-        common has the bits of the pairs of the keep, at which the stretch ends.
+        common has the bits of the pairs of the keep, at which the stretch ends. When all joints that are asked for
+        are found, no others are looked for.
         """
         old, new = pair
         if not isinstance(old, int) or not isinstance(new, int):
             return (self.old.lone(old), self.new.lone(new))
         found = waiting = (1 << self.numbers[pair]) & ~common
         old_bits = new_bits = 0
-        while waiting != 0:
+        while waiting != 0 and (old_asked & ~old_bits | new_asked & ~new_bits) != 0:
             fresh = 0
             for at in indexes(waiting):
                 old_bits = old_bits | self.old_bits[at]

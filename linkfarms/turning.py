@@ -44,9 +44,11 @@ class Turning:
         """Find for each link that turns what its stretch says of it and of others."""
         of_joints = self.links_of_joints()
         common = sum([1 << self.pairing.numbers[(old, self.kept[old])] for old in self.kept])
+        old_asked = sum([self.pairing.old.bits[old] for old in of_joints])
+        new_asked = sum([self.pairing.new.bits[self.kept[old]] for old in of_joints])
         for at in range(len(self.turned)):
             itself = 1 << at
-            old_bits, new_bits = self.pairing.stretch(self.first_pair(self.turned[at]), common)
+            old_bits, new_bits = self.pairing.stretch(self.first_pair(self.turned[at]), common, old_asked, new_asked)
             behind = 0
             for place in indexes(old_bits):
                 behind = behind | of_joints.get(self.pairing.old.joints[place], 0)
