@@ -26,32 +26,26 @@ def parts_of(shelf, lot):
     return [(None, own_entries), *[(name, shelf[name]) for name in installed]]
 
 
-def sources_at(shelf, lot, path):
-    """The list of the sources of a path, in path order."""
+def placed_at(shelf, lot, path, kind):
+    """The list of the tuples (name, place) of all sources of a path at which a package has something of this kind."""
     ways = ways_of(packages_of(shelf, lot))
-    return ways.sources_in(ways.read(path))
+    sources = ways.sources_in(ways.read(path))
+    return [
+        (name, place)
+        for name, package in parts_of(shelf, lot)
+        for place in sources
+        if package.kind(place) == kind
+    ]
 
 
 def owners_at(shelf, lot, path):
     """The list of the owners of a path."""
-    sources = sources_at(shelf, lot, path)
-    return [
-        (name, place)
-        for name, package in parts_of(shelf, lot)
-        for place in sources
-        if place == "" or (place in package.entries and package.entries[place] is None)
-    ]
+    return placed_at(shelf, lot, path, "folder")
 
 
 def holders_at(shelf, lot, path):
     """The list of the holders of a path."""
-    sources = sources_at(shelf, lot, path)
-    return [
-        (name, place)
-        for name, package in parts_of(shelf, lot)
-        for place in sources
-        if isinstance(package.entries.get(place), int)
-    ]
+    return placed_at(shelf, lot, path, "file")
 
 
 def landing_at(shelf, lot, path):

@@ -73,12 +73,10 @@ class World:
 
     def make_folder(self, farm, path):
         """Add a folder at a path of a farm; its landing."""
-        check_path(path)
-        self.lot(farm)
         return self.enter(farm, path, None)
 
     def enter(self, farm, path, item):
-        """Add a new entry at a path of a farm; its landing."""
+        """Add a new entry at a path of a farm; its landing. Raises BadPath and NoFarm first."""
         self.check_free(farm, path)
         name, place = landing_at(self.shelf, self.lots[farm], path)
         # This refuses places of more than ten names, and the forty-first entry.
@@ -97,7 +95,6 @@ class World:
 
     def erase(self, farm, path):
         """Remove the file of the only holder of a path of a farm; the holder."""
-        check_path(path)
         name, place = self.holder(farm, path)
         self.put(farm, name, self.part(farm, name).without(place))
         return (name, place)
@@ -214,14 +211,14 @@ class World:
         return name in self.lots[other][0]
 
     def check_free(self, farm, path):
-        """Raise Taken for a path that shows something, NoFolder for its parent if it shows no folder."""
+        """Raise BadPath, NoFarm, Taken for a path that shows something, NoFolder for a parent that shows no folder."""
         if self.shown(farm, path) != "nothing":
             raise Taken(path)
         if self.shown(farm, parent(path)) != "folder":
             raise NoFolder(parent(path))
 
     def holder(self, farm, path):
-        """The only holder of a path; raises NoFarm, NoFile, Shared."""
+        """The only holder of a path; raises BadPath, NoFarm, NoFile, Shared."""
         holders = self.holders(farm, path)
         if len(holders) == 0:
             raise NoFile(path)

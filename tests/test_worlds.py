@@ -536,6 +536,16 @@ class Ahead(Checks):
         self.assertEqual(world.count_ahead("f", "x", "f", 199), 1)
         self.assertEqual(world.ahead(farm="f", path="z/x", other="f"), "z/x")
 
+    def test_the_least_of_several_paths(self):
+        world = World()
+        world.define("p", Package({"t/u": None, "s": "x", "x/c": "t/u", "z": "t"}))
+        world.define("q", Package({"s": "y", "y/a": "t/u", "z": "y"}))
+        world.open_farm("f", "p", "q")
+        # s leads to x, where c goes on, and to y, where a goes on.
+        for path in ["t/u/new", "s/a/new", "s/c/new", "z/u/new"]:
+            self.assertEqual(world.ahead("f", path, "f"), "s/a/new")
+            self.assertEqual(world.count_ahead("f", path, "f", 3), 7)
+
     def test_great_numbers(self):
         world = World()
         world.define("p", Package({"a": "", "b": "", "c": None}))
