@@ -41,7 +41,11 @@ class Tally:
         """The numbers of paths to spots that lead further, so many names later."""
         for step in range(steps):
             self.find_lasting(counts)
-            counts = counts_after(self.lasting, counts)
+            before = counts
+            counts = counts_after(self.lasting, before)
+            if counts == before:
+                # So it stays for all numbers of names.
+                return counts
         return counts
 
     def counts(self, length):

@@ -102,6 +102,8 @@ class WrongTables(unittest.TestCase):
         for target in wrong:
             self.check((1, "b"), {1: {"c": target, "b": target, "a": 0}, 0: {"a": 1}, 3: {"a": target}})
         self.check((0, "a"), {0: {"a": 1}, 2: None}, top=0)
+        self.check((2, None), {9: {"a": None}, 4: {}, 2: {"": 4}, 3: None}, top=4)
+        self.check((2, "a"), {9: None, 4: {}, 2: {"c": 1, "a": None, "b": 4}, 3: {1: 2}}, top=4)
         self.check((0, "b"), {0: {"c": None, "b": 7, "a": 0}, 1: {1: 1}})
         Layout({0: {"a": ("p", ""), "b": ("own", "a/b/c"), "c": 0, "abcdefgh": ("x", "/".join(["abcdefgh"] * 30))}})
 
