@@ -29,37 +29,39 @@ class Chart:
     """The states of a farm, numbered in the order of the least paths that lead to them; the root has 0.
 
     For each state: states has its places, views what the farm has there, words what it shows, moves the dict from the
-    names that go on to a path that shows something to the number of its state. tally and merged are for what is worked
-    out from the chart, once it is asked for.
+    names that go on to a path that shows something to the number of its state. tally is for the numbers of paths, once
+    they are asked for.
     """
 
     def __init__(self, ways):
-        self.numbers = {ROOT: 0}
         self.states = [ROOT]
         self.origins = [None]
         self.moves = []
-        while len(self.moves) < len(self.states):
-            self.follow(ways.next_states(self.states[len(self.moves)]))
-            if len(self.states) > MOST_STATES:
-                raise TooMany(MOST_STATES)
+        self.follow_all(ways)
         # Each state shows something, so those without a file show a folder.
         self.views = [ways.view(state) if state & ways.file_places else FOLDER_VIEW for state in self.states]
         self.words = [word_of(view) for view in self.views]
         self.tally = None
-        self.merged = None
 
-    def follow(self, reached):
-        """Number the states to which the next state leads."""
-        numbers = self.numbers
-        row = {}
-        for name in reached:
-            state = reached[name]
-            if state not in numbers:
-                numbers[state] = len(self.states)
-                self.states.append(state)
-                self.origins.append((len(self.moves), name))
-            row[name] = numbers[state]
-        self.moves.append(row)
+    def follow_all(self, ways):
+        """Find all states, those with the least paths first; raises TooMany(500)."""
+        states = self.states
+        numbers = {ROOT: 0}
+        while len(self.moves) < len(states):
+            at = len(self.moves)
+            reached = ways.names_after(states[at])
+            row = {}
+            for name in reached:
+                state = reached[name]
+                if state & ways.shows:
+                    if state not in numbers:
+                        numbers[state] = len(states)
+                        states.append(state)
+                        self.origins.append((at, name))
+                    row[name] = numbers[state]
+            if len(states) > MOST_STATES:
+                raise TooMany(MOST_STATES)
+            self.moves.append(row)
 
     def least_path(self, at):
         """The least path that leads to a state."""

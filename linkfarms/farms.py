@@ -29,7 +29,7 @@ def names(packages, path):
     """The ascending list of the names with which a path goes on to a path that shows something."""
     check_path(path)
     ways = ways_of(packages)
-    return list(ways.next_states(ways.read(path)))
+    return ways.names_shown(ways.read(path))
 
 
 def clash(packages):

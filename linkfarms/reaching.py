@@ -2,7 +2,7 @@
 
 from linkfarms.charts import Chart, path_back
 from linkfarms.paths import beginnings, joined
-from linkfarms.tables import ROOT, indexes
+from linkfarms.tables import ROOT
 from linkfarms.tallies import StateTally
 from linkfarms.ways import Ways
 
@@ -20,8 +20,8 @@ def least_path_to(entries, place):
     met = ROOT
     at = 0
     while at < len(groups):
-        reached = states_after(ways, groups[at])
-        for name in sorted(reached):
+        reached = ways.names_after(groups[at])
+        for name in reached:
             fresh = reached[name] & ~met
             if fresh & wanted != 0:
                 return joined(path_back(origins, at), name)
@@ -36,16 +36,6 @@ def least_path_to(entries, place):
 def with_file(entries, place):
     """Entries, and a file at a place with its parents; its content does not matter."""
     return [*entries, *[("", folder, None) for folder in beginnings(place)], ("", place, 0)]
-
-
-def states_after(ways, state):
-    """A dict from the names that go on from the places of a state to all places to which they lead."""
-    reached = {}
-    for at in indexes(state & ways.inner):
-        row = ways.steps[at]
-        for name in row:
-            reached[name] = reached.get(name, 0) | row[name]
-    return reached
 
 
 def count_paths_to(entries, place, length):

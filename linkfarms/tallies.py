@@ -31,22 +31,34 @@ class Tally:
             self.followers[spot] = self.find_after(spot)
         return self.followers[spot]
 
-    def find_lasting(self, counts):
-        """Find for spots the spots that come next and lead further."""
-        for spot in counts:
-            if spot not in self.lasting:
-                self.lasting[spot] = [to for to in self.all_after(spot) if len(self.all_after(to)) > 0]
+    def lasting_after(self, spot):
+        """The list of the spots that come next and lead further."""
+        return [to for to in self.all_after(spot) if len(self.all_after(to)) > 0]
 
     def lasting_counts(self, counts, steps):
         """The numbers of paths to spots that lead further, so many names later."""
         for step in range(steps):
-            self.find_lasting(counts)
             before = counts
-            counts = counts_after(self.lasting, before)
+            counts = self.next_counts(before)
             if counts == before:
                 # So it stays for all numbers of names.
                 return counts
         return counts
+
+    def next_counts(self, counts):
+        """The same, one name later."""
+        lasting = self.lasting
+        found = {}
+        for spot in counts:
+            if spot not in lasting:
+                lasting[spot] = self.lasting_after(spot)
+            many = counts[spot]
+            for to in lasting[spot]:
+                if to in found:
+                    found[to] = found[to] + many
+                else:
+                    found[to] = many
+        return found
 
     def counts(self, length):
         """A dict from the spots to which paths with so many names lead, to the numbers of these paths."""
@@ -56,22 +68,11 @@ class Tally:
         while len(self.marks) <= mark:
             self.marks.append(self.lasting_counts(self.marks[-1], STRIDE))
         counts = self.lasting_counts(self.marks[mark], length - 1 - mark * STRIDE)
+        found = {}
         for spot in counts:
-            self.all_after(spot)
-        return counts_after(self.followers, counts)
-
-
-def counts_after(followers, counts):
-    """The numbers of paths to spots, one name later."""
-    found = {}
-    for spot in counts:
-        many = counts[spot]
-        for to in followers[spot]:
-            if to in found:
-                found[to] = found[to] + many
-            else:
-                found[to] = many
-    return found
+            for to in self.all_after(spot):
+                found[to] = found.get(to, 0) + counts[spot]
+        return found
 
 
 class StateTally(Tally):

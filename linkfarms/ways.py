@@ -119,22 +119,28 @@ class Ways:
             return (is_folder, ())
         return (is_folder, tuple(sorted({content for at in indexes(files) for content in self.held[at]})))
 
-    def next_states(self, state):
-        """A dict from the names that go on to a path that shows something to its state, ascending."""
-        shows = self.shows
+    def names_after(self, state):
+        """A dict from the names that go on from the places of a state to all places to which they lead, ascending."""
         left = state & self.inner
         bit = left & -left
         if left == bit:
-            row = self.steps[bit.bit_length() - 1] if bit else {}
-            return {name: row[name] for name in row if row[name] & shows}
+            return self.steps[bit.bit_length() - 1] if bit else {}
         reached = {}
         while left:
             bit = left & -left
             left = left ^ bit
             row = self.steps[bit.bit_length() - 1]
             for name in row:
-                reached[name] = reached[name] | row[name] if name in reached else row[name]
-        return {name: reached[name] for name in sorted(reached) if reached[name] & shows}
+                if name in reached:
+                    reached[name] = reached[name] | row[name]
+                else:
+                    reached[name] = row[name]
+        return {name: reached[name] for name in sorted(reached)}
+
+    def names_shown(self, state):
+        """The ascending list of the names that go on to a path that shows something."""
+        reached = self.names_after(state)
+        return [name for name in reached if reached[name] & self.shows]
 
 
 def steps_of(ways):
