@@ -93,3 +93,14 @@ def farm_changes(how_many, seed, most=5, **told):
         if max(len(old), len(new)) <= most and (len(old) > 1 or len(new) > 1 or dice.random() < 0.2):
             found.append((packages, old, new))
     return found
+
+
+def in_another_order(dice, deeds, waiting):
+    """The deeds of a plan with its turns in any order that these waits, tuples of links, allow."""
+    left = [deed for deed in deeds if deed[0] == "turn"]
+    done = [deed for deed in deeds if deed[0] == "make"]
+    while left:
+        links = [deed[1:3] for deed in left]
+        free = [deed for deed in left if not any(one == deed[1:3] and other in links for one, other in waiting)]
+        done.append(left.pop(left.index(dice.choice(free))))
+    return done + [deed for deed in deeds if deed[0] == "drop"]

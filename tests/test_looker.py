@@ -11,7 +11,7 @@ from linkfarms.packages import Package
 from linkfarms.plans import plan, stops
 import plain_layouts as plain
 from samples import other_values, wrong_paths
-from some_layouts import farm_changes, near_changes, random_changes, random_target, targets_of
+from some_layouts import farm_changes, in_another_order, near_changes, random_changes, random_target, targets_of
 from test_keeps import FILES, exchange
 
 
@@ -64,15 +64,7 @@ class Fault(unittest.TestCase):
                 if ring(packages, old, new, keep) is not None:
                     continue
                 deeds = plan(packages, old, new, keep=keep)
-                waiting = waits(packages, old, new, keep)
-                left = [deed for deed in deeds if deed[0] == "turn"]
-                done = [deed for deed in deeds if deed[0] == "make"]
-                while left:
-                    links = [deed[1:3] for deed in left]
-                    free = [deed for deed in left
-                            if not any(one == deed[1:3] and other in links for one, other in waiting)]
-                    done.append(left.pop(left.index(dice.choice(free))))
-                done += [deed for deed in deeds if deed[0] == "drop"]
+                done = in_another_order(dice, deeds, waits(packages, old, new, keep))
                 self.assertIsNone(fault(packages, old, new, done))
 
     def bent(self, dice, packages, old, new, deeds):
