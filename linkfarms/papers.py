@@ -98,10 +98,11 @@ def holds_absent(packages, path, table):
         return False
     if sorted(table) != sorted(targets) or not all([is_list_of_places(table[target]) for target in targets]):
         return False
+    rows = {target: {place: True for place in table[target]} for target in targets}
     for target in targets:
-        if not all([place in table[target] for place in read_by(items, table, target)]):
+        if not all([place in rows[target] for place in read_by(items, rows, target)]):
             return False
-    return all([is_empty_place(items, place) for place in read_by(items, table, path)])
+    return all([is_empty_place(items, place) for place in read_by(items, rows, path)])
 
 
 def is_list_of_places(thing):
@@ -111,8 +112,8 @@ def is_list_of_places(thing):
     return in_order(list({place: True for place in thing})) == list(thing)
 
 
-def read_by(items, table, path):
-    """A dict from the places to which a path is read by a table to True."""
+def read_by(items, rows, path):
+    """A dict from the places to which a path is read by the rows of a table to True."""
     places = {"": True}
     for name in split_path(path):
         after = {}
@@ -120,8 +121,8 @@ def read_by(items, table, path):
             longer = joined(place, name)
             for item in items.get(longer, ()):
                 after[longer] = True
-                for other in table[item] if isinstance(item, str) else ():
-                    after[other] = True
+                if isinstance(item, str):
+                    after.update(rows[item])
         places = after
     return places
 
