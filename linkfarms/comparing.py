@@ -6,6 +6,9 @@ from linkfarms.merging import Merged
 from linkfarms.notes import tokens_of
 from linkfarms.tallies import Tally
 
+# With more pairs than so many for each state it takes longer to look at all of them than to merge the states.
+MANY_PAIRS = 3
+
 
 def parting(one, other):
     """The least path at which two farms part, or None; raises TooMany(500), for one before other."""
@@ -38,28 +41,75 @@ def both_of(one, other):
 
 
 class Both(Tally):
-    """Two farms side by side. A path leads to a pair of classes of states, with None where a farm shows nothing.
+    """Two farms side by side. A path leads to a pair of states, with None where a farm shows nothing.
 
-    Beyond a pair of equal classes nothing parts, so it is not followed.
+    Pairs beyond which nothing parts are not followed. If there are few pairs, all of them are looked at first.
+    Otherwise the states of both farms are merged: then these pairs are just those of one class.
     """
 
     def __init__(self, first, second):
         many = len(first.views)
-        shifted = [{name: moves[name] + many for name in moves} for moves in second.moves]
-        self.merged = Merged(first.views + second.views, first.moves + shifted)
-        Tally.__init__(self, (self.merged.classes[0], self.merged.classes[many]))
+        self.left_views = first.views
+        self.right_views = second.views
+        self.left_rows = first.moves
+        self.right_rows = second.moves
+        found = pairs_that_matter(self, MANY_PAIRS * (many + len(second.views)))
+        if found is not None:
+            Tally.__init__(self, (0, 0))
+            self.followers = found
+        else:
+            shifted = [{name: row[name] + many for name in row} for row in second.moves]
+            merged = Merged(first.views + second.views, first.moves + shifted)
+            Tally.__init__(self, (merged.classes[0], merged.classes[many]))
+            self.left_views = self.right_views = {number: merged.class_view(number) for number in merged.samples}
+            self.left_rows = self.right_rows = {number: merged.class_row(number) for number in merged.samples}
+
+    def pairs_after(self, pair):
+        """The list of the pairs to which the names lead that go on from a pair."""
+        one, other = pair
+        left = {} if one is None else self.left_rows[one]
+        right = {} if other is None else self.right_rows[other]
+        found = [(left[name], right.get(name)) for name in left]
+        for name in right:
+            if name not in left:
+                found.append((None, right[name]))
+        return found
 
     def find_after(self, spot):
         """The list of the pairs of unequal classes to which the names lead that go on from a pair."""
-        one, other = spot
-        left = {} if one is None else self.merged.class_row(one)
-        right = {} if other is None else self.merged.class_row(other)
-        pairs = [(left.get(name), right.get(name)) for name in {**left, **right}]
-        return [pair for pair in pairs if pair[0] != pair[1]]
+        return [pair for pair in self.pairs_after(spot) if pair[0] != pair[1]]
 
     def do_part(self, pair):
         """Whether two farms part at the paths that lead to a pair."""
         one, other = pair
-        if one is None or other is None:
-            return True
-        return self.merged.class_view(one) != self.merged.class_view(other)
+        return one is None or other is None or self.left_views[one] != self.right_views[other]
+
+
+def pairs_that_matter(both, most):
+    """A dict from the pairs at or beyond which something parts to the lists of those that come next.
+
+    The pair of the roots is there in any case. None if there are more than so many pairs.
+    """
+    waiting = [(0, 0)]
+    callers = {(0, 0): []}
+    nexts = {}
+    while len(nexts) < len(waiting):
+        pair = waiting[len(nexts)]
+        nexts[pair] = both.pairs_after(pair)
+        for to in nexts[pair]:
+            if to in callers:
+                callers[to].append(pair)
+            else:
+                callers[to] = [pair]
+                waiting.append(to)
+        if len(waiting) > most:
+            return None
+    stack = [pair for pair in waiting if both.do_part(pair)]
+    good = {pair: True for pair in stack}
+    while len(stack) > 0:
+        for caller in callers[stack.pop()]:
+            if caller not in good:
+                good[caller] = True
+                stack.append(caller)
+    good[(0, 0)] = True
+    return {pair: [to for to in nexts[pair] if to in good] for pair in good}
